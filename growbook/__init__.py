@@ -1,0 +1,1 @@
+"""Growbook: a book that only grows, a table beside it, and papers that show both."""
