@@ -84,3 +84,36 @@ def risen(seal, leaf, place, size, path):
         else:
             top = pair_seal(seal, other, top)
     return top
+
+
+# As in a path, but it ends with the stretch that is the last of the first so many leaves.
+def growth_turns(old, size):
+    turns = []
+    while old < size:
+        first = split(size)
+        if old <= first:
+            turns.append("first")
+            size = first
+        else:
+            turns.append("rest")
+            old = old - first
+            size = size - first
+    return turns
+
+
+# The two tops that a growth comes to, that of the first so many leaves and that of all, for an old size of 1 or more.
+def grown(seal, old, size, growth):
+    turns = growth_turns(old, size)
+    if not isinstance(growth, list):
+        raise BadPaper("a growth is a list")
+    if len(growth) != len(turns) + 1:
+        raise BadPaper("the growth is not as long as one from that size to that size")
+    before = growth[0]
+    after = growth[0]
+    for turn, other in zip(reversed(turns), growth[1:]):
+        if turn == "first":
+            after = pair_seal(seal, after, other)
+        else:
+            before = pair_seal(seal, other, before)
+            after = pair_seal(seal, other, after)
+    return (before, after)

@@ -58,7 +58,8 @@ class Form(unittest.TestCase):
 
     def test_the_files_of_the_interface_are_there(self):
         names = {path.name for path in sources()}
-        self.assertLessEqual({"errors.py", "stretches.py", "frontier.py", "table.py"}, names)
+        needed = ("errors", "stretches", "frontier", "table", "changes", "keeper", "claims", "follower")
+        self.assertLessEqual({f"{name}.py" for name in needed}, names)
 
     def test_imports_are_the_packages_own(self):
         for path, node in nodes():
@@ -105,6 +106,30 @@ class Form(unittest.TestCase):
             elif isinstance(node, ast.Attribute) and isinstance(node.ctx, ast.Store):
                 values.add(node.attr)
         self.assertEqual(methods & values, set())
+
+    def test_no_local_is_called_like_a_class_or_an_import_of_its_file(self):
+        for path, source in sources().items():
+            tree = ast.parse(source)
+            drawn = {name.name for part in tree.body if isinstance(part, ast.ImportFrom) for name in part.names}
+            made = {part.name for part in tree.body if isinstance(part, ast.ClassDef)}
+            for node in ast.walk(tree):
+                if isinstance(node, ast.arg):
+                    self.assertNotIn(node.arg, drawn | made, f"{path}:{node.lineno}")
+                elif isinstance(node, ast.Name) and isinstance(node.ctx, ast.Store):
+                    self.assertNotIn(node.id, drawn | made, f"{path}:{node.lineno}")
+
+    def test_is_stands_beside_none_true_and_false_alone(self):
+        for path, node in nodes():
+            if isinstance(node, ast.Compare) and isinstance(node.ops[0], (ast.Is, ast.IsNot)):
+                beside = [part.value for part in (node.left, *node.comparators) if isinstance(part, ast.Constant)]
+                self.assertTrue(any(value is thing for value in beside for thing in (None, True, False)), path)
+
+    def test_errors_are_taken_by_the_programs_own_names(self):
+        own = {node.name for _, node in nodes() if isinstance(node, ast.ClassDef)}
+        for path, node in nodes():
+            if isinstance(node, ast.ExceptHandler):
+                self.assertIsInstance(node.type, ast.Name, f"{path}:{node.lineno}")
+                self.assertIn(node.type.id, own, f"{path}:{node.lineno}")
 
     def test_statements_and_expressions(self):
         for path, node in nodes():
